@@ -4,13 +4,21 @@ package kiln
 import (
 	"kiln/api"
 	"kiln/lex"
+	"kiln/parse"
 )
 
 // Tokens cuts a text into tokens (P3).
 func Tokens(text string) ([]string, int, api.Errno) { return lex.Cut(text) }
 
 // Trees tells how a text is understood (P4).
-func Trees(text string) ([]string, int, api.Errno) { return nil, 0, api.OK }
+func Trees(text string) ([]string, int, api.Errno) {
+	declarations, place, errno := parse.Program(text)
+	var trees []string
+	for _, declaration := range declarations {
+		trees = append(trees, declaration.String())
+	}
+	return trees, place, errno
+}
 
 // Types tells the types of a program's names (P5).
 func Types(text string) ([]string, int, api.Errno) { return nil, 0, api.OK }

@@ -52,7 +52,7 @@ func oddTexts() []string {
 		"type list 'a = Nil | Cons 'a (list 'a) . let h l = match l with | Cons x r -> x end .",
 		strings.Repeat("9", 18), strings.Repeat("9", 19),
 	}
-	for _, piece := range []string{"(", "a ", "! ", "let ", "fun x -> ", "match ", "'a", "9", ".", "$", "#", "\n", "\x80"} {
+	for _, piece := range []string{"(", "a ", "! ", "let ", "fun x -> ", "match ", "match x with | ", "type t = A (", "do f (", ")", "do x.", "1 + ", "'a", "9", ".", "$", "#", "\n", "\x80"} {
 		texts = append(texts,
 			strings.Repeat(piece, api.MaxText/len(piece)),
 			strings.Repeat(piece, api.MaxText/len(piece)+1),
@@ -110,49 +110,73 @@ func TestP2EqualTextsHaveEqualAnswers(t *testing.T) {
 	workers.Wait()
 }
 
+// textCall is a call that answers with a list of texts.
+type textCall func(string) ([]string, int, api.Errno)
+
+// textCalls has those of them that have something to answer.
+func textCalls() map[string]textCall {
+	return map[string]textCall{"Tokens": kiln.Tokens, "Trees": kiln.Trees}
+}
+
 func TestP2ListsShareNoMemory(t *testing.T) {
-	const text = "let f x = x + 1 ."
-	want := []string{"let", "f", "x", "=", "x", "+", "1", "."}
-	kept, _, _ := kiln.Tokens(text)
-	spoiled, _, _ := kiln.Tokens(text)
-	for i := range spoiled[:cap(spoiled)] {
-		spoiled[:cap(spoiled)][i] = "spoiled"
-	}
-	later, _, _ := kiln.Tokens(text)
-	for _, tokens := range [][]string{kept, later} {
-		if !slices.Equal(tokens, want) {
-			t.Errorf("behind a write into another list: %q, want %q", tokens, want)
+	const text = "let f x = x + 1 . do f 1 . do f 2 ."
+	for name, call := range textCalls() {
+		kept, _, _ := call(text)
+		want := slices.Clone(kept)
+		spoiled, _, _ := call(text)
+		for i := range spoiled[:cap(spoiled)] {
+			spoiled[:cap(spoiled)][i] = "spoiled"
 		}
-		if slices.Contains(tokens[:cap(tokens)], "spoiled") {
-			t.Errorf("spare room is shared: %q", tokens[:cap(tokens)])
+		later, _, _ := call(text)
+		for _, list := range [][]string{kept, later} {
+			if len(list) < 3 || !slices.Equal(list, want) {
+				t.Errorf("%s: behind a write into another list: %q, want %q", name, list, want)
+			}
+			if slices.Contains(list[:cap(list)], "spoiled") {
+				t.Errorf("%s: spare room is shared: %q", name, list[:cap(list)])
+			}
 		}
 	}
 }
 
-func TestP2AppendedTokensStayApart(t *testing.T) {
-	first, _, _ := kiln.Tokens("a b c")
-	second, _, _ := kiln.Tokens("a b c")
-	first = append(first, "first")
-	second = append(second, "second")
-	if first[3] != "first" || second[3] != "second" {
-		t.Errorf("appended: %q and %q", first, second)
+func TestP2AppendedTextsStayApart(t *testing.T) {
+	const text = "do a . do b . do c ."
+	for name, call := range textCalls() {
+		first, _, _ := call(text)
+		second, _, _ := call(text)
+		length := len(first)
+		first = append(first, "first")
+		second = append(second, "second")
+		if length < 3 || first[length] != "first" || second[length] != "second" {
+			t.Errorf("%s: appended: %q and %q", name, first, second)
+		}
+	}
+}
+
+func (call textCall) want(t *testing.T, text string, want []string) {
+	t.Helper()
+	list, place, errno := call(text)
+	if !slices.Equal(list, want) || place != 0 || errno != api.OK {
+		t.Errorf("of %.80q: %.200q, %d, %d, want %.200q", text, list, place, errno, want)
+	}
+}
+
+func (call textCall) wantError(t *testing.T, text string, place int, errno api.Errno) {
+	t.Helper()
+	list, gotPlace, gotErrno := call(text)
+	if len(list) != 0 || gotPlace != place || gotErrno != errno {
+		t.Errorf("of %.80q: %.200q, %d, %d, want an empty list, %d, %d", text, list, gotPlace, gotErrno, place, errno)
 	}
 }
 
 func wantTokens(t *testing.T, text string, want ...string) {
 	t.Helper()
-	tokens, place, errno := kiln.Tokens(text)
-	if !slices.Equal(tokens, want) || place != 0 || errno != api.OK {
-		t.Errorf("Tokens(%.60q) = %.200q, %d, %d, want %.200q", text, tokens, place, errno, want)
-	}
+	textCall(kiln.Tokens).want(t, text, want)
 }
 
 func wantError(t *testing.T, text string, place int, errno api.Errno) {
 	t.Helper()
-	tokens, gotPlace, gotErrno := kiln.Tokens(text)
-	if len(tokens) != 0 || gotPlace != place || gotErrno != errno {
-		t.Errorf("Tokens(%.60q) = %.200q, %d, %d, want no token, %d, %d", text, tokens, gotPlace, gotErrno, place, errno)
-	}
+	textCall(kiln.Tokens).wantError(t, text, place, errno)
 }
 
 func TestP3TheDocumentsExamples(t *testing.T) {

@@ -119,6 +119,18 @@ func countWhile(rest string, fit func(byte) bool) int {
 	return len(rest)
 }
 
+// IsName tells names from the other tokens, words among them.
+func IsName(token string) bool { return nameLength(token) > 0 && !isWord(token) }
+
+// IsConstructor tells constructors from the other tokens.
+func IsConstructor(token string) bool { return token != "" && isGreat(token[0]) }
+
+// IsLetter tells letters of types from the other tokens.
+func IsLetter(token string) bool { return token != "" && token[0] == '\'' }
+
+// IsNumber tells numbers from the other tokens.
+func IsNumber(token string) bool { return token != "" && isDigit(token[0]) }
+
 func isWord(name string) bool {
 	switch name {
 	case "let", "rec", "in", "fun", "if", "then", "else",
