@@ -3,8 +3,11 @@ package kiln
 
 import (
 	"kiln/api"
+	"kiln/check"
+	"kiln/cover"
 	"kiln/lex"
 	"kiln/parse"
+	"kiln/tree"
 )
 
 // Tokens cuts a text into tokens (P3).
@@ -21,10 +24,34 @@ func Trees(text string) ([]string, int, api.Errno) {
 }
 
 // Types tells the types of a program's names (P5).
-func Types(text string) ([]string, int, api.Errno) { return nil, 0, api.OK }
+func Types(text string) ([]string, int, api.Errno) {
+	program, place, errno := check.Read(text)
+	if errno != api.OK {
+		return nil, place, errno
+	}
+	var lines []string
+	for _, binding := range program.Bindings {
+		lines = append(lines, binding.Name+" : "+binding.Type.String())
+	}
+	return lines, 0, api.OK
+}
 
 // Matches looks a program's matches over (P6).
-func Matches(text string) ([]api.Match, int, api.Errno) { return nil, 0, api.OK }
+func Matches(text string) ([]api.Match, int, api.Errno) {
+	program, place, errno := check.Read(text)
+	if errno != api.OK {
+		return nil, place, errno
+	}
+	var matches []api.Match
+	for _, declaration := range program.Declarations {
+		for node := range declaration.All() {
+			if node.Kind == tree.Match {
+				matches = append(matches, cover.Look(node, program.Variants))
+			}
+		}
+	}
+	return matches, 0, api.OK
+}
 
 // Run runs a program (P7).
 func Run(text string, input string, steps int) (api.Result, int, api.Errno) {

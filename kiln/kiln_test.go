@@ -50,9 +50,11 @@ func oddTexts() []string {
 		"do put 65 .",
 		"let rec f x = f x . do f () .",
 		"type list 'a = Nil | Cons 'a (list 'a) . let h l = match l with | Cons x r -> x end .",
+		"type t 'a 'b = A 'a | B 'b (t 'b 'a) . let f x = match x with | A 1 -> 1 | B y (A z) -> 2 | _ -> 3 | A _ -> 4 end . let g x y = f x ; y .",
+		"let f x = x x .", "let r = ref (fun x -> x) .", "type t = A | A .", "type t = A (t t) .", "do 1 . do nowhere .",
 		strings.Repeat("9", 18), strings.Repeat("9", 19),
 	}
-	for _, piece := range []string{"(", "a ", "! ", "let ", "fun x -> ", "match ", "match x with | ", "type t = A (", "do f (", ")", "do x.", "1 + ", "'a", "9", ".", "$", "#", "\n", "\x80"} {
+	for _, piece := range []string{"(", "a ", "! ", "let ", "fun x -> ", "match ", "match x with | ", "type t = A (", "do f (", "let x=1.", "do().", "let f x=f.", "let f x y=f.", ")", "do x.", "1 + ", "'a", "9", ".", "$", "#", "\n", "\x80"} {
 		texts = append(texts,
 			strings.Repeat(piece, api.MaxText/len(piece)),
 			strings.Repeat(piece, api.MaxText/len(piece)+1),
@@ -113,13 +115,12 @@ func TestP2EqualTextsHaveEqualAnswers(t *testing.T) {
 // textCall is a call that answers with a list of texts.
 type textCall func(string) ([]string, int, api.Errno)
 
-// textCalls has those of them that have something to answer.
 func textCalls() map[string]textCall {
-	return map[string]textCall{"Tokens": kiln.Tokens, "Trees": kiln.Trees}
+	return map[string]textCall{"Tokens": kiln.Tokens, "Trees": kiln.Trees, "Types": kiln.Types}
 }
 
 func TestP2ListsShareNoMemory(t *testing.T) {
-	const text = "let f x = x + 1 . do f 1 . do f 2 ."
+	const text = "let f x = x + 1 . let y = f 1 . let z = f 2 ."
 	for name, call := range textCalls() {
 		kept, _, _ := call(text)
 		want := slices.Clone(kept)
@@ -140,7 +141,7 @@ func TestP2ListsShareNoMemory(t *testing.T) {
 }
 
 func TestP2AppendedTextsStayApart(t *testing.T) {
-	const text = "do a . do b . do c ."
+	const text = "let a = 1 . let b = 2 . let c = 3 ."
 	for name, call := range textCalls() {
 		first, _, _ := call(text)
 		second, _, _ := call(text)

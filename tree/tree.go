@@ -1,7 +1,10 @@
 // Package tree has the trees as which the forms of a program are understood.
 package tree
 
-import "strings"
+import (
+	"iter"
+	"strings"
+)
 
 // Kind says which form a node is.
 type Kind int
@@ -115,4 +118,33 @@ func (k Kind) word() string {
 		return "->"
 	}
 	return ""
+}
+
+// All goes over a node and all that it is built of, in the order in which they begin in the text.
+func (n *Node) All() iter.Seq[*Node] {
+	return func(yield func(*Node) bool) { n.walk(yield) }
+}
+
+// walk tells whether visit never said no.
+func (n *Node) walk(visit func(*Node) bool) bool {
+	if !visit(n) {
+		return false
+	}
+	for _, part := range n.Parts {
+		if !part.walk(visit) {
+			return false
+		}
+	}
+	return true
+}
+
+// Only gives the parts that are of a kind.
+func (n *Node) Only(kind Kind) []*Node {
+	var parts []*Node
+	for _, part := range n.Parts {
+		if part.Kind == kind {
+			parts = append(parts, part)
+		}
+	}
+	return parts
 }
