@@ -7,6 +7,7 @@ import (
 	"kiln/cover"
 	"kiln/lex"
 	"kiln/parse"
+	"kiln/run"
 	"kiln/tree"
 )
 
@@ -55,5 +56,20 @@ func Matches(text string) ([]api.Match, int, api.Errno) {
 
 // Run runs a program (P7).
 func Run(text string, input string, steps int) (api.Result, int, api.Errno) {
-	return api.Result{}, 0, api.OK
+	program, place, errno := check.Read(text)
+	switch {
+	case errno != api.OK:
+		return api.Result{}, place, errno
+	case steps < 0 || steps > api.MaxSteps:
+		return api.Result{}, 0, api.ErrSteps
+	}
+	return resultOf(program, input, steps), 0, api.OK
+}
+
+// resultOf catches a run that gives up: what it has done till then is its result too.
+func resultOf(program *check.Program, input string, steps int) (result api.Result) {
+	machine := run.New(input, steps)
+	defer func() { result = machine.Result(run.EndOf(recover())) }()
+	machine.Work(program.Declarations)
+	return result
 }
